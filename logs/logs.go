@@ -1,4 +1,4 @@
-// Package logs writes what was heard, as the bytes of a log.
+// Package logs writes what was heard, as the bytes of a log, and reads it.
 package logs
 
 import (
@@ -30,8 +30,7 @@ func (w *Writer) Heard(in api.Input) {
 	b := body(in)
 	w.bytes = appendVarint(w.bytes, len(b))
 	w.bytes = append(w.bytes, b...)
-	s := sum(b)
-	w.bytes = append(w.bytes, byte(s>>24), byte(s>>16), byte(s>>8), byte(s))
+	w.bytes = appendSum(w.bytes, b)
 }
 
 // End writes the record of the end and answers the whole log.
@@ -64,6 +63,12 @@ func appendVarint(b []byte, n int) []byte {
 		n /= 128
 	}
 	return append(b, byte(n))
+}
+
+// appendSum puts the sum of the body behind b.
+func appendSum(b, body []byte) []byte {
+	s := sum(body)
+	return append(b, byte(s>>24), byte(s>>16), byte(s>>8), byte(s))
 }
 
 func sum(b []byte) uint32 {

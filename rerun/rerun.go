@@ -38,7 +38,15 @@ func (r *recorder) Hear(kind, of int) (api.Input, int) {
 }
 
 // Read reads a log (P9).
-func Read(log string) ([]api.Input, int, int) { return nil, 0, 0 }
+func Read(log string) ([]api.Input, int, int) {
+	var inputs []api.Input
+	from := logs.NewReader(log)
+	for in := range from.Inputs() {
+		inputs = append(inputs, in)
+	}
+	at, why := from.Ends()
+	return inputs, at, why
+}
 
 // Replay runs a program by a log (P10).
 func Replay(p api.Program, log string, fuel int) ([]api.Event, api.Final, api.Errno) {
