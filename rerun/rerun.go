@@ -6,6 +6,7 @@ import (
 	"rerun/check"
 	"rerun/logs"
 	"rerun/loop"
+	"rerun/replay"
 	"rerun/world"
 )
 
@@ -50,5 +51,15 @@ func Read(log string) ([]api.Input, int, int) {
 
 // Replay runs a program by a log (P10).
 func Replay(p api.Program, log string, fuel int) ([]api.Event, api.Final, api.Errno) {
-	return nil, api.Final{}, api.OK
+	if e := check.Program(p); e != api.OK {
+		return nil, api.Final{}, e
+	}
+	inputs, at, _ := Read(log)
+	if at == 0 {
+		return nil, api.Final{}, api.ErrLog
+	}
+	from := replay.New(inputs)
+	trace, final := loop.Run(p, from, fuel)
+	final.End = from.End(final.End)
+	return trace, final, api.OK
 }

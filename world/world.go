@@ -4,6 +4,7 @@ package world
 import (
 	"rerun/api"
 	"rerun/code"
+	"rerun/feed"
 )
 
 // Source has a channel for each list of a world, because which kind is asked
@@ -18,22 +19,11 @@ type Source struct {
 // New makes a source of all that w says.
 func New(w api.World) *Source {
 	return &Source{
-		clocks:  filled(w.Clocks),
-		batches: filled(w.Batches),
-		picks:   filled(w.Picks),
-		lots:    filled(w.Lots),
+		clocks:  feed.Filled(w.Clocks),
+		batches: feed.Filled(w.Batches),
+		picks:   feed.Filled(w.Picks),
+		lots:    feed.Filled(w.Lots),
 	}
-}
-
-// filled has room for the whole list: no sender needs to wait for the loop,
-// and none is left behind when the run ends early.
-func filled[T any](list []T) <-chan T {
-	c := make(chan T, len(list))
-	for _, x := range list {
-		c <- x
-	}
-	close(c)
-	return c
 }
 
 // Hear answers the next input of the kind; of is the number of files of a
